@@ -1,0 +1,1 @@
+"""Headskip: which blocks of a table must be read."""

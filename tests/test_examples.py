@@ -1,0 +1,102 @@
+"""The examples of the document, as they stand there."""
+
+from helpers import Case, run_examples
+
+TOLDS = r'''
+>>> from headskip.tolds import Blank, FullList, FullSpan, HoledList, HoledSpan, OpenSpan, Told
+>>> wide, loose = FullSpan(3, 7), HoledSpan(4, 9, True, False)
+>>> [wide.wants, loose.wants, 5 in wide, None in loose, wide.fits([7, 3]), wide.fits([3, 5]), str(loose), str(OpenSpan(2, 2, False, False))]
+[(3, 7), (4, None), True, True, True, False, '4 to ~9 holed', '~2 to ~2 open']
+>>> [str(wide.normal(2)), str(wide.normal(3)), str(loose.normal(2)), str(HoledSpan(4, 9, False, False).normal(1)), str(FullSpan(6, 6, False, False).normal(5))]
+['list 3 7', '3 to 7', 'list 4 holed', 'blank', 'list 6']
+>>> [wide.is_in(FullSpan(0, 7, False, True), 3), str(wide.both(FullSpan(5, 7, False, False), 3)), str(FullSpan(1, 7, False, True).both(FullSpan(3, 9, True, False), 3))]
+[True, 'None', '3 to 7']
+>>> [str(FullList(3).merged(1, FullSpan(5, 9, False, False), 1)), str(FullList(3, 5).merged(2, HoledList(4), 2)), str(wide + 2), str(-loose), str(Told.span_of([5, None, 2]))]
+['3 to ~9', 'list 3 4 5 holed', '5 to 9', '~-9 to -4 holed', '2 to 5 holed']
+>>> Told.read("list 1 5 5")
+raises BadText(0, 3)
+'''
+
+FILTERS = r'''
+>>> from headskip.filters import Always, Among, AtMost, Filter, Less, Missing, Same
+>>> near = Less(4, "x") & ~Same("x", "y") | Missing("y")
+>>> [str(near), near.columns, near.constants, near.links, len(near)]
+['( ( 4 < x and not x = y ) or y null )', ('x', 'y'), (4,), (('x', 'y'),), 3]
+>>> [near.truth({"x": x, "y": y}) for x, y in ((5, 6), (5, 5), (5, None), (None, 6), (4, 4))]
+[True, False, True, None, False]
+>>> [(~Among("x", 7, 2)).truth({"x": None}), str(~Among("x", 7, 2)), str(near.mirrored()), ~~near == near, near({"x": None, "y": 6})]
+[None, 'not x in 2 7', '( ( x < -4 and not y = x ) or y null )', True, False]
+>>> Filter.read("( x < 3 and 3 )")
+raises BadText(0, 6)
+>>> Same("x", "y") & Less("y", "z")
+raises TooMany('linked', 2)
+>>> near({"x": 1})
+raises NoName('y')
+'''
+
+LOTS = r'''
+>>> from headskip.filters import Less
+>>> from headskip.lots import Lots
+>>> lots = Lots(((3, None), 2), ((1, 4), 1), ((3, None), 10 ** 20))
+>>> [str(lots), lots.rows == 10 ** 20 + 3, len(lots), lots.times((1, 4)), lots.tally(1)[4], str(lots.where(Less("x", 3), "x", "y"))]
+['1 4 * 1 ; 3 null * 100000000000000000002', True, 2, 1, 1, '1 4 * 1']
+>>> [str(lots.without((1, 4))), Lots.of([(3,), (1,), (3,)]) == Lots(((1,), 1), ((3,), 2)), str(Lots())]
+['3 null * 100000000000000000002', True, '-']
+>>> lots.without((1, 4), 2)
+raises BadRow('row')
+>>> Lots.read("3 * 1 ; 1 * 2")
+raises BadText(0, 4)
+'''
+
+HEADS = r'''
+>>> from headskip.heads import Head
+>>> from headskip.lots import Lots
+>>> head = Head(3, x=FullSpan(3, 7), y=FullSpan(0, 1))
+>>> [head.names, head.wanted, head.fits(Lots(((3, 0), 2), ((7, 1), 1))), head.fits(Lots(((3, 0), 2), ((7, 0), 1))), str(head.normal())]
+[('x', 'y'), (('x', 3), ('x', 7), ('y', 0), ('y', 1)), True, False, '3 ; x 3 to 7 ; y list 0 1']
+>>> tight, loose = Head(2, x=FullSpan(3, 7)), Head(2, x=FullSpan(0, 7, False, True))
+>>> [tight <= loose, tight >= loose, str(tight & loose), str(tight | loose), tight.normal() == Head.read("2 ; x list 3 7")]
+[True, False, '2 ; x list 3 7', '4 ; x ~0 to 7', True]
+>>> str(Head.around(Lots(((5, None), 4), ((2, None), 1)), ["x", "y"]))
+'5 ; x 2 to 5 ; y blank'
+>>> Head(2, x=FullList(1, 2, 3))
+raises BadHead('x')
+'''
+
+SPOTS = r'''
+>>> from headskip.filters import AtMost, Less, Missing, Same
+>>> from headskip.heads import Head
+>>> from headskip.spots import Part, alike, deciding_rows, same_truth, spots, within
+>>> from headskip.tolds import FullList, FullSpan, OpenSpan
+>>> head = Head(5, x=FullSpan(0, 20), y=OpenSpan(3, 30))
+>>> [spots(head, Less("x", 8), "x"), spots(head, Less("x", 8), "y"), spots(head, Same("x", "y"), "x")]
+[(0, 1, 7, 8, 9, 19, 20), (3, 4, 29, 30, None), (0, 1, 2, 3, 4, 5, 18, 19, 20)]
+>>> [list(deciding_rows(Head(2, x=FullList(2, 5)), AtMost("x", 3))), within(Less("x", 8), Less("x", 9)), alike(~Less("x", 8), AtMost(8, "x"))]
+[[(2,), (5,)], None, None]
+>>> [within(Less("x", 9), Less("x", 8)) == Part(("x",), (8,)), within(Less("x", "y"), AtMost("y", 7)) == Part(("x", "y"), (5, 8))]
+[True, True]
+>>> [alike(Same("x", "x"), ~Missing("x")), same_truth(Same("x", "x"), ~Missing("x")) == Part(("x",), (None,))]
+[None, True]
+'''
+
+# The rows about kinds, of the examples that stand under headskip/covers.py.
+KINDS = r'''
+>>> from headskip.kinds import Kinds, kind_row, kinds, shows_kinds
+>>> block, middle = Head(2, x=FullSpan(3, 7)), AtMost(4, "x") & AtMost("x", 6)
+>>> found = kinds(block, middle)
+>>> found == Kinds((("x", 3), ("x", 7)), ((),), ((0,), (1,)))
+True
+>>> square = Head(2, x=FullSpan(0, 1), y=FullSpan(0, 1))
+>>> both = kinds(square, Same("x", "y"))
+>>> [both.wants, both.matching, both.others, kind_row(square, Same("x", "y"), False, (1,)), kind_row(square, Same("x", "y"), True, (0, 3))]
+[(('x', 0), ('x', 1), ('y', 0), ('y', 1)), ((0, 2), (1, 3)), ((0, 3), (1, 2)), (1, 0), None]
+>>> shows_kinds(square, Same("x", "y"), both)
+True
+'''
+
+
+class Examples(Case):
+    def test_examples_one_behind_the_other(self):
+        names = {}
+        for text in (TOLDS, FILTERS, LOTS, HEADS, SPOTS, KINDS):
+            run_examples(self, text, names)
