@@ -29,21 +29,19 @@ class Told:
 
     def normal(self, rows):
         """The normal form for so many rows."""
-        _check_rows(self, rows, "rows")
+        _check_rows((self,), rows)
         return _told_of(self.reach.in_rows(rows))
 
     def is_in(self, other, rows):
         """Whether other lets each row of so many values that this lets."""
         _check_other(other)
-        _check_rows(self, rows, "rows")
-        _check_rows(other, rows, "rows")
+        _check_rows((self, other), rows)
         return self.reach.in_rows(rows).lies_in(other.reach)
 
     def both(self, other, rows):
         """The normal Told that lets just what both let, None if that is nothing."""
         _check_other(other)
-        _check_rows(self, rows, "rows")
-        _check_rows(other, rows, "rows")
+        _check_rows((self, other), rows)
         found = self.reach.both(other.reach)
         if found is None or len(found.sure) > rows:
             return None
@@ -52,8 +50,8 @@ class Told:
     def merged(self, rows, other, more):
         """The least normal Told of rows values that this lets with more values that other lets."""
         _check_other(other)
-        _check_rows(self, rows, "rows")
-        _check_rows(other, more, "more")
+        _check_rows((self,), rows)
+        _check_rows((other,), more, "more")
         return _told_of(self.reach.in_rows(rows).joined(other.reach.in_rows(more)))
 
     def __add__(self, other):
@@ -74,22 +72,14 @@ class Told:
     @staticmethod
     def span_of(values):
         """The narrowest span of some values, Blank() if all are NULL."""
-        _check_values(values)
-        found = ascending(values)
-        numbers = integers_of(found)
-        if not numbers:
-            return Blank()
-        return _span(_nulls_of(found, False), (numbers[0], numbers[-1], True, True))
+        nulls, numbers = _gathered(values)
+        return _span(nulls, (numbers[0], numbers[-1], True, True)) if numbers else Blank()
 
     @staticmethod
     def list_of(values):
         """The list of some values, Blank() if all are NULL."""
-        _check_values(values)
-        found = ascending(values)
-        numbers = integers_of(found)
-        if not numbers:
-            return Blank()
-        return _listed(_nulls_of(found, False), numbers)
+        nulls, numbers = _gathered(values)
+        return _listed(nulls, numbers) if numbers else Blank()
 
     @classmethod
     def read(cls, text):
@@ -302,8 +292,9 @@ def _check_listed(values):
         raise TooMany("values", MOST_VALUES)
 
 
-def _check_rows(told, rows, part):
-    if not is_integer(rows) or rows < max(1, len(told.wants)):
+def _check_rows(tolds, rows, part="rows"):
+    most = max([len(told.wants) for told in tolds])
+    if not is_integer(rows) or rows < max(1, most):
         raise BadTold(part)
 
 
@@ -312,9 +303,12 @@ def _check_other(other):
         raise BadTold("other")
 
 
-def _check_values(values):
+def _gathered(values):
+    """Whether NULL is among some values, as a word for it, and their integers, ascending."""
     if not isinstance(values, (list, tuple)) or len(values) == 0:
         raise BadTold("values")
     for value in values:
         if not is_value(value):
             raise BadValue(value)
+    found = ascending(values)
+    return _nulls_of(found, False), integers_of(found)
