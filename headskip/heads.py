@@ -104,8 +104,6 @@ class Head:
         """The Head with another Told for a column."""
         if name not in self:
             raise NoName(name)
-        if not isinstance(told, Told):
-            raise BadHead(name)
         tolds = {**self.tolds, name: told}
         return Head(self.rows, **tolds)
 

@@ -36,8 +36,6 @@ class Reach:
         """What is possible and sure in so many rows."""
         if len(self.sure) == rows:
             return reach_of(self.sure)
-        if self.low is None:
-            return reach_of((None,))
         if self.low == self.high and not self.null:
             return reach_of((self.low,))
         return self
@@ -89,6 +87,5 @@ def reach_of(values):
 def _listed_reach(numbers, null, sure):
     if numbers:
         return Reach(numbers[0], numbers[-1], numbers, null, sure)
-    if null:
-        return Reach(None, None, (), null, sure)
-    return None
+    # Without integers all rows have NULL.
+    return Reach(None, None, (), True, (None,)) if null else None

@@ -66,6 +66,4 @@ def is_exactly(value, wanted):
         if not isinstance(value, tuple) or len(value) != len(wanted):
             return False
         return all([is_exactly(part, other) for part, other in zip(value, wanted)])
-    if value is None or wanted is None:
-        return value is None and wanted is None
-    return isinstance(value, (int, str)) and not isinstance(value, bool) and value == wanted
+    return not isinstance(value, bool) and value == wanted

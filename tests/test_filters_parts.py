@@ -32,6 +32,7 @@ class Properties(Case):
             for k, other in enumerate(tests):
                 self.assertIs(one == other, at == k)
                 self.assertIs(one != other, at != k)
+            self.assertIs(one == str(one), False)
         self.assertEqual(Among("x", 7, 2, 2), Among("x", 2, 7))
         self.assertEqual(~(Less("x", 5) & Never()), ~(Less("x", 5) & Never()))
         for value in odd_values():

@@ -99,6 +99,7 @@ class Making(Case):
             for k, other in enumerate(heads):
                 self.assertIs(one == other, at == k)
                 self.assertIs(one != other, at != k)
+            self.assertIs(one == str(one), False)
         self.assertEqual(Head(3, y=SPAN, x=Blank()), Head(3, x=Blank(), y=FullSpan(3, 7)))
         for value in odd_values():
             self.assertIs(heads[0] == value, False)

@@ -182,6 +182,7 @@ class Moves(Case):
             for k, other in enumerate(same):
                 self.assertIs(one == other, at == k)
                 self.assertIs(one != other, at != k)
+            self.assertIs(one == str(one), False)
         for value in odd_values():
             self.assertIs(FullSpan(4, 5) == value, False)
             self.assertIs(Blank() == value, type(value) is Blank)

@@ -28,7 +28,7 @@ class Texts(Case):
     def test_words_that_cannot_stand(self):
         for text, word in (
             ("", 0), (" ", 0), ("full", 0), ("to", 0), ("~ to 3", 0), ("03 to 5", 0), ("-0 to 5", 0), ("3\nto 5", 0),
-            ("blank 3", 1), ("blank ", 1), ("blank holed", 1), ("3", 1), ("3 ", 1), ("3 7", 1), ("3 too 7", 1),
+            ("\u0663 to 5", 0), ("\u00b2 to 5", 0), ("blank 3", 1), ("blank ", 1), ("blank holed", 1), ("3", 1), ("3 ", 1), ("3 7", 1), ("3 too 7", 1),
             ("3 to", 2), ("3 to 2", 2), ("3 to ~2", 2), ("3 to ~3", 2), ("~3 to 3", 2), ("3 to ", 2), ("3 to +5", 2),
             ("3 to 5 full", 3), ("3 to 5 ", 3), ("3 to 5 7", 3), ("3 to 5 holed open", 4), ("3 to 5 open ", 4),
             ("list", 1), ("list ", 1), ("list holed", 1), ("list ~3", 1), ("list 3 3", 2), ("list 3 2", 2),
