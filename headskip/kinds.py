@@ -1,8 +1,9 @@
 """Which wants of a head the matching rows and the other rows can meet together."""
 
 from headskip.errors import BadRow
+from headskip.matches import is_match
 from headskip.spots import check_columns, deciding_rows
-from headskip.values import is_exactly, is_integer
+from headskip.values import is_exactly, is_index
 
 
 class Kinds:
@@ -21,18 +22,8 @@ class Kinds:
 
 def kinds(head, test, limit=None):
     """The Kinds of a block."""
-    places = _want_places(head)
-    matching = {}
-    others = {}
-    for row in deciding_rows(head, test, limit):
-        met = _met(places, row)
-        if met in matching and met in others:
-            continue
-        if _is_match(head, test, limit, row):
-            matching[met] = True
-        else:
-            others[met] = True
-    return Kinds(head.wanted, _greatest(list(matching)), _greatest(list(others)))
+    matching, others = rows_by_kind(head, test, limit)
+    return kinds_of_sets(head.wanted, list(matching), list(others))
 
 
 def kind_row(head, test, matches, some, limit=None):
@@ -41,10 +32,10 @@ def kind_row(head, test, matches, some, limit=None):
     _check_some(head, some)
     if not isinstance(matches, bool):
         raise BadRow("matches")
-    places = _want_places(head)
+    places = want_places(head)
     for row in deciding_rows(head, test, limit):
-        met = _met(places, row)
-        if all([k in met for k in some]) and _is_match(head, test, limit, row) == matches:
+        met = met_wants(places, row)
+        if all([k in met for k in some]) and is_match(head.names, test, limit, row) == matches:
             return row
     return None
 
@@ -52,28 +43,47 @@ def kind_row(head, test, matches, some, limit=None):
 def shows_kinds(head, test, paper, limit=None):
     """Whether any value is the Kinds of a block, of the same kinds of values."""
     found = kinds(head, test, limit)
+    return is_kinds(paper, found)
+
+
+def is_kinds(paper, wanted):
+    """Whether any value is a Kinds like the one that is wanted, of the same kinds of values."""
     if not isinstance(paper, Kinds):
         return False
     told = (paper.wants, paper.matching, paper.others)
-    return is_exactly(told, (found.wants, found.matching, found.others))
+    return is_exactly(told, (wanted.wants, wanted.matching, wanted.others))
 
 
-def _want_places(head):
+def rows_by_kind(head, test, limit=None):
+    """Two dicts from the sets of wants that matching rows meet, and that others meet, to the first such row."""
+    places = want_places(head)
+    matching = {}
+    others = {}
+    for row in deciding_rows(head, test, limit):
+        met = met_wants(places, row)
+        if met in matching and met in others:
+            continue
+        if is_match(head.names, test, limit, row):
+            matching.setdefault(met, row)
+        else:
+            others.setdefault(met, row)
+    return matching, others
+
+
+def kinds_of_sets(wants, matching, others):
+    """The Kinds of all sets of wants that matching rows meet, and that others meet."""
+    return Kinds(wants, _greatest(matching), _greatest(others))
+
+
+def want_places(head):
     """For each column a dict from its wants to their indexes."""
     wanted = list(enumerate(head.wanted))
     return [{want: k for k, (name, want) in wanted if name == column} for column in head.names]
 
 
-def _met(places, row):
+def met_wants(places, row):
     """The indexes of the wants that a row meets, ascending."""
     return tuple([place[value] for place, value in zip(places, row) if value in place])
-
-
-def _is_match(head, test, limit, row):
-    named = dict(zip(head.names, row))
-    if limit is not None and not limit.lets(named[limit.column]):
-        return False
-    return test.truth_in(named) is True
 
 
 def _greatest(sets):
@@ -87,8 +97,5 @@ def _lies_below(some, other):
 
 
 def _check_some(head, some):
-    if not isinstance(some, tuple):
+    if not isinstance(some, tuple) or not all([is_index(k, len(head.wanted)) for k in some]):
         raise BadRow("some")
-    for k in some:
-        if not is_integer(k) or not 0 <= k < len(head.wanted):
-            raise BadRow("some")

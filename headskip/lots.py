@@ -3,7 +3,7 @@
 from headskip.errors import BadFilter, BadLots, BadRow, NoName, TooMany
 from headskip.filters import Filter
 from headskip.lots_words import lots_parts
-from headskip.values import ascending, ascending_rows, is_integer, is_name, is_row
+from headskip.values import ascending, ascending_rows, is_index, is_integer, is_name, is_row
 from headskip.words import check_end, words_of
 
 MOST_PAIRS = 40
@@ -51,7 +51,7 @@ class Lots:
 
     def tally(self, k):
         """A dict from the values of a column, ascending, to how many rows have them."""
-        if not is_integer(k) or not 0 <= k < self.width:
+        if not is_index(k, self.width):
             raise BadLots("column")
         found = {value: 0 for value in ascending([row[k] for row, _ in self.pairs])}
         for row, times in self.pairs:

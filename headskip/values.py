@@ -11,6 +11,11 @@ def is_integer(value):
     return isinstance(value, int) and not isinstance(value, bool)
 
 
+def is_index(value, many):
+    """Whether any value is the index of one of so many things."""
+    return is_integer(value) and 0 <= value < many
+
+
 def is_value(value):
     """Whether any value can stand in a row: an integer, or None for NULL."""
     return value is None or is_integer(value)

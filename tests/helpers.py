@@ -4,12 +4,18 @@ import itertools
 import unittest
 
 from headskip import errors
+from headskip.counts import counts
+from headskip.covers import Covers
 from headskip.errors import BadText, BadValue, TooMany
 from headskip.filters import Always, Among, AtMost, Less, Missing, Never, Same
 from headskip.heads import Head
 from headskip.kinds import Kinds
 from headskip.lots import Lots
+from headskip.questions import AtLeast, Greatest
+from headskip.settled import Settled, Unsettled
+from headskip.shelves import Shelf, Table
 from headskip.spots import Limit, Part
+from headskip.sums import Sums
 from headskip.tolds import Blank, FullList, FullSpan, HoledList, HoledSpan, OpenList, OpenSpan
 
 SPANS = (FullSpan, HoledSpan, OpenSpan)
@@ -24,6 +30,8 @@ def odd_values():
         {}, {"x": 1}, {"x": "y"}, {1: "x"}, {"x": [1]}, {(1, None): 2}, [[[[[[[[1]]]]]]]], (True,), ((True,), 1),
         FullSpan(1, 2), Blank(), HoledList(1, 2), Less("x", 5), Always(), Lots(), Lots(((1,), 1)),
         Head(2, x=FullSpan(1, 2)), Limit("x"), Part(("x",), (1,)), Part(1, [2]), Kinds((), (), ()), BadValue(3),
+        Covers((0,), (0,)), counts(Head(2, x=FullSpan(1, 2)), Always()), Shelf(Head(2, w=FullSpan(1, 2))), Table(Lots()),
+        AtLeast(2, Always()), Greatest("w", Always()), Settled(1, ()), Unsettled(0, 1, 2), Sums(0, 0, Lots(), Lots()),
     ]
 
 

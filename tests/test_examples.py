@@ -79,24 +79,109 @@ SPOTS = r'''
 [None, True]
 '''
 
-# The rows about kinds, of the examples that stand under headskip/covers.py.
-KINDS = r'''
+COVERS = r'''
+>>> from headskip.covers import Covers, covers, shows_covers
 >>> from headskip.kinds import Kinds, kind_row, kinds, shows_kinds
 >>> block, middle = Head(2, x=FullSpan(3, 7)), AtMost(4, "x") & AtMost("x", 6)
 >>> found = kinds(block, middle)
->>> found == Kinds((("x", 3), ("x", 7)), ((),), ((0,), (1,)))
-True
+>>> [found == Kinds((("x", 3), ("x", 7)), ((),), ((0,), (1,))), covers(found) == Covers((0, None, None, None), (0, 1, 1, 2))]
+[True, True]
 >>> square = Head(2, x=FullSpan(0, 1), y=FullSpan(0, 1))
 >>> both = kinds(square, Same("x", "y"))
 >>> [both.wants, both.matching, both.others, kind_row(square, Same("x", "y"), False, (1,)), kind_row(square, Same("x", "y"), True, (0, 3))]
 [(('x', 0), ('x', 1), ('y', 0), ('y', 1)), ((0, 2), (1, 3)), ((0, 3), (1, 2)), (1, 0), None]
->>> shows_kinds(square, Same("x", "y"), both)
-True
+>>> [covers(both).matching, shows_covers(found, Covers((0, None, None, None), (0, 1, 1, 2))), shows_covers(found, Covers((0, None, None, None), (0, 1, 1, 1)))]
+[(0, 1, 1, 2, 1, 1, 2, 2, 1, 2, 1, 2, 2, 2, 2, 2), True, False]
+'''
+
+COUNTS = r'''
+>>> from headskip.counts import counts, lots_with, matches_of, shows_counts
+>>> from headskip.lots import Lots
+>>> from headskip.spots import Limit
+>>> [counts(block, middle).ranges, counts(Head(3, x=FullSpan(3, 7)), middle).ranges, counts(Head(2, x=FullSpan(3, 7, True, False)), middle).ranges]
+[((0, 0),), ((0, 1),), ((0, 1),)]
+>>> odd = counts(square, Same("x", "y"))
+>>> [str(odd), 1 in odd, odd.minimum, odd.maximum, odd.is_fixed, str(odd + odd), str(odd + counts(Head(1, x=FullSpan(2, 2)), Less("x", 2)))]
+['0, 2', False, 0, 2, False, '0, 2, 4', '0, 2']
+>>> [lots_with(square, Same("x", "y"), 0) == Lots(((0, 1), 1), ((1, 0), 1)), matches_of(lots_with(square, Same("x", "y"), 2), ("x", "y"), Same("x", "y"))]
+[True, 2]
+>>> [counts(Head(3, x=FullSpan(1, 9)), AtMost(1, "x"), Limit("x", low)).ranges for low in (5, 10)]
+[((1, 2),), ((0, 0),)]
+>>> great = Head(10 ** 12, x=FullSpan(0, 1), y=FullSpan(0, 1))
+>>> [str(counts(great, Same("x", "y"))), str(counts(great, Less("x", 2))), shows_counts(square, Same("x", "y"), ((0, 0), (2, 2)))]
+['0 to 1000000000000', '1000000000000', True]
+>>> lots_with(square, Same("x", "y"), 1)
+raises NoCount(1)
+'''
+
+ENDS = r'''
+>>> from headskip.ends import levels, lowest, open_value, possible, sure, surely_below
+>>> from headskip.sums import Sums, shows_sums, sums
+>>> head = Head(5, x=FullSpan(0, 9), y=FullSpan(0, 1))
+>>> zero = Same("y", 0)
+>>> [possible(head, zero, "x"), sure(head, zero, "x"), lowest(head, zero, "x"), surely_below(head, zero, "x")]
+[9, 0, 0, 9]
+>>> surely = Head(4, x=FullSpan(0, 8), y=FullSpan(0, 0))
+>>> [possible(surely, zero, "x"), sure(surely, zero, "x"), open_value(surely, zero, "x", 1), open_value(surely, zero, "x", 2)]
+[8, 8, None, 8]
+>>> three = Head(3, x=FullSpan(-2, 5))
+>>> found = sums(three, AtMost(0, "x"), "x")
+>>> [found.least, found.greatest, found.much == Lots(((-2,), 1), ((5,), 2)), found.is_fixed]
+[5, 10, True, False]
+>>> [(v, list(many)) for v, many in levels(Head(2, x=FullSpan(1, 9)), Always(), "x")]
+[(9, [(1, 1)]), (1, [(2, 2)])]
+'''
+
+SHELVES = r'''
+>>> from headskip.heads import Head
+>>> from headskip.lots import Lots
+>>> from headskip.shelves import Shelf, Table
+>>> from headskip.tolds import FullSpan
+>>> shelf = Shelf(Head(2, x=FullSpan(3, 7)), Head(1, x=FullSpan(5, 5)))
+>>> table = Table(Lots(((3,), 1), ((7,), 1)), Lots(((5,), 1)))
+>>> [len(shelf), shelf.names, shelf.fits(table), shelf.sample() == table, Shelf.of(table, "x") == shelf, list(shelf.read_at(table, 1))]
+[2, ('x',), True, True, True, [1]]
+>>> [str(shelf.with_merged(0)[0]["x"]), shelf.agrees(table, {0: Lots(((3,), 1), ((7,), 1))}), shelf.fits(table.with_block(1, Lots(((6,), 1))))]
+['list 3 5 7', True, False]
+>>> shelf.read_at(table, 0, 2)
+raises NoBlock(2)
+'''
+
+QUESTIONS = r'''
+>>> from headskip.questions import AtLeast, Greatest, Least, Many, OfColumn, Question, Some, Top, Total
+>>> rows = Lots(((4, 0), 1), ((7, 0), 2), ((9, 1), 1), ((None, 0), 1))
+>>> [Some(zero).on(("x", "y"), rows), Many(zero).on(("x", "y"), rows), Greatest("x", zero).on(("x", "y"), rows), Least("x", zero).on(("x", "y"), rows), Total("x", zero).on(("x", "y"), rows), Top(4, "x", zero).on(("x", "y"), rows)]
+[True, 4, 7, 4, 18, (7, 7, 4)]
+>>> [Top(2, "x", zero).joined((7, 4), (), (8,)), Greatest("x", zero).joined(None, 3), str(AtLeast(2, zero)), Top(2, "x", zero).columns]
+[(8, 7), 3, 'at least 2 where y = 0', ('x', 'y')]
+>>> Question.read("top 5 x where y = 0")
+raises BadText(0, 1)
+'''
+
+SETTLED = r'''
+>>> from headskip.questions import Greatest, Many, Top
+>>> from headskip.settled import Settled, Unsettled, settle
+>>> shelf = Shelf(Head(2, x=FullSpan(3, 7)), Head(3, x=FullSpan(0, 9)))
+>>> some = settle(shelf, Greatest("x", Always()), {})
+>>> [bool(some), some.answer, bool(settle(shelf, Many(Less("x", 5)), {})), settle(shelf, Many(Less("x", 5)), {1: Lots(((0,), 1), ((2,), 1), ((9,), 1))}).answer]
+[True, 9, False, 3]
+>>> [settle(shelf, Top(2, "x", Always()), {}).answer if settle(shelf, Top(2, "x", Always()), {}) else None, settle(shelf, Top(2, "x", Always()), {1: Lots(((0,), 1), ((2,), 1), ((9,), 1))}).answer]
+[None, (9, 7)]
+'''
+
+LOOK_SETTLED = r'''
+>>> from headskip.look_settled import shows_settled, shows_unsettled
+>>> found = settle(shelf, Many(Less("x", 5)), {})
+>>> [shows_unsettled(shelf, Many(Less("x", 5)), {}, found), shows_settled(shelf, Greatest("x", Always()), {}, some), shows_settled(shelf, Greatest("x", Always()), {}, Settled(8, some.parts))]
+[True, True, False]
+>>> one, other = Table(Lots(((3,), 1), ((7,), 1)), Lots(((0,), 2), ((9,), 1))), Table(Lots(((3,), 1), ((7,), 1)), Lots(((0,), 1), ((9,), 2)))
+>>> [shows_unsettled(shelf, Many(Less("x", 5)), {}, Unsettled(1, one, other)), shows_unsettled(shelf, Greatest("x", Always()), {}, Unsettled(1, one, other))]
+[True, False]
 '''
 
 
 class Examples(Case):
     def test_examples_one_behind_the_other(self):
         names = {}
-        for text in (TOLDS, FILTERS, LOTS, HEADS, SPOTS, KINDS):
+        for text in (TOLDS, FILTERS, LOTS, HEADS, SPOTS, COVERS, COUNTS, ENDS, SHELVES, QUESTIONS, SETTLED, LOOK_SETTLED):
             run_examples(self, text, names)

@@ -9,21 +9,12 @@ from headskip.heads import Head
 from headskip.kinds import Kinds, kind_row, kinds, shows_kinds
 from headskip.spots import Limit, deciding_rows
 from headskip.tolds import Blank, FullList, FullSpan, HoledList, HoledSpan, OpenSpan
+from brute import matches
 from helpers import Case, exactly, odd_values, random_filter
 from test_spots import random_head
 
 SQUARE = Head(2, x=FullSpan(0, 1), y=FullSpan(0, 1))
 SAME = Same("x", "y")
-
-
-def matches(test, limit, named):
-    if limit is not None:
-        value = named[limit.column]
-        if value is None or (limit.low is not None and value < limit.low):
-            return False
-        if limit.high is not None and value > limit.high:
-            return False
-    return test.truth(named) is True
 
 
 def met_by(head, row):

@@ -108,6 +108,23 @@ class Form(unittest.TestCase):
                 if isinstance(node.func, ast.Name) and node.func.id in ("sorted", "min", "max"):
                     self.assertTrue(any(is_plain(part) for part in node.args), (name, node.lineno))
 
+    def test_sets_stand_in_sorted_and_len_and_beside_comparisons_alone(self):
+        for name, tree in trees().items():
+            parents = {child: node for node in ast.walk(tree) for child in ast.iter_child_nodes(node)}
+            for node in nodes(tree, ast.Call, ast.SetComp, ast.Set):
+                if isinstance(node, ast.Call) and not (isinstance(node.func, ast.Name) and node.func.id == "set"):
+                    continue
+                above = parents[node]
+                if not isinstance(above, ast.Compare):
+                    self.assertIn(above.func.id, ("sorted", "len"), (name, node.lineno))
+                    self.assertFalse(above.keywords, (name, node.lineno))
+
+    def test_doubled_underscores_and_words_that_are_barred(self):
+        for path in FILES:
+            text = path.read_text(encoding="ascii")
+            for word in ("dataclass", "overload", "contextmanager", "(type)", "Meta", "metaclass=", "_wall"):
+                self.assertNotIn(word, text, path)
+
     def test_names_of_methods_and_attributes_are_unlike(self):
         methods, attributes = set(), set()
         for tree in trees().values():

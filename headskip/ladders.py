@@ -1,0 +1,41 @@
+"""How many matches of a block have at least some integer: the least and the greatest number, integer by integer."""
+
+
+class Ladder:
+    """Steps: triples of an integer and the least and the greatest number of matches with at least so much, descending.
+
+    Between two steps the numbers are those of the greater integer; above the first step there are none.
+    """
+
+    def __init__(self, steps):
+        self.steps = steps
+
+    def range_from(self, value):
+        """The least and the greatest number of matches with at least this integer."""
+        below = [(few, many) for step, few, many in self.steps if step >= value]
+        return below[-1] if below else (0, 0)
+
+    def sure_above(self, last):
+        """The pairs of an integer above the last one (None: of any) and how many matches surely have it, descending."""
+        found = []
+        above = 0
+        for step, few, _ in self.steps:
+            if few > above and (last is None or step > last):
+                found.append((step, few - above))
+            above = few
+        return found
+
+
+def ladder_of_levels(levels):
+    """The Ladder of the levels of a block that was not read."""
+    return Ladder([(value, numbers.minimum, numbers.maximum) for value, numbers in levels])
+
+
+def ladder_of_values(pairs):
+    """The Ladder of a block that was read, by the pairs of an integer and a number of matches that have it."""
+    steps = []
+    total = 0
+    for value in sorted(set([value for value, _ in pairs]))[::-1]:
+        total += sum([times for other, times in pairs if other == value])
+        steps.append((value, total, total))
+    return Ladder(steps)
