@@ -116,14 +116,10 @@ def _rows_of_set(rows, numbers, at):
     """As few rows as possible that together meet the set with this index, by the least numbers of rows."""
     found = []
     while at > 0:
-        met = [some for some in rows if _is_step(numbers, at, at & ~set_index(some))][0]
+        met = [some for some in rows if numbers[at & ~set_index(some)] < numbers[at]][0]
         found.append(rows[met])
         at = at & ~set_index(met)
     return found
-
-
-def _is_step(numbers, at, rest):
-    return numbers[rest] is not None and numbers[rest] + 1 == numbers[at]
 
 
 def _filled_up(rows, fillers, many):

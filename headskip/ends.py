@@ -57,10 +57,8 @@ def levels_of(found):
 
 
 def _greatest_possible(found):
-    for value, numbers in levels_of(found):
-        if numbers.maximum > 0:
-            return value
-    return None
+    steps = levels_of(found)
+    return steps[0][0] if steps else None
 
 
 def _greatest_sure(found):

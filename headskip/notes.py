@@ -16,8 +16,6 @@ def limit_from(question, value):
     """The Limit of the rows with at least this integer, with its sign; None for a question without a column."""
     if question.asked is None:
         return None
-    if value is None:
-        return Limit(question.asked)
     if sign_of(question) < 0:
         return Limit(question.asked, None, -value)
     return Limit(question.asked, value)

@@ -192,6 +192,14 @@ class LotsWith(Case):
             self.check(head, test, many, None)
             self.check(head, ~test, 5 - many if 5 - many in counts(head, ~test) else counts(head, ~test).minimum, None)
 
+    def test_wants_that_few_matches_cannot_meet(self):
+        # One row must be (9, 0), the only match that leaves both other ends to one row that does not match.
+        head = Head(2, x=FullSpan(0, 9), y=FullSpan(0, 9))
+        between = Same("x", 0) & Less(0, "y") & Less("y", 9) | Same("y", 0) & Less(0, "x") & Less("x", 9)
+        test = Same("x", 9) & Same("y", 0) | between
+        self.assertEqual(counts(head, test).ranges, ((0, 1),))
+        self.assertEqual(lots_with(head, test, 1), Lots(((0, 9), 1), ((9, 0), 1)))
+
     def test_any_value_that_is_no_possible_number(self):
         for value in odd_values():
             if type(value) is not int or value not in (0, 2):

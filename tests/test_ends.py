@@ -66,6 +66,12 @@ class Ends(Case):
             self.assertEqual([possible(head, test, "x"), sure(head, test, "x"), lowest(head, test, "x"),
                               surely_below(head, test, "x")], wanted)
 
+    def test_values_that_go_farther_in_later_rows(self):
+        head = Head(3, x=FullSpan(0, 2, False, False), y=FullSpan(-2, 2, False, False))
+        for test, ends in ((Less(0, "x") | Less(0, "y"), [2, None, -2, None]), (Less(0, "x") | Less("y", 0), [2, None, -2, None]),
+                           (Same("x", 1) | Same("x", 0) & Same("y", 0), [2, None, -2, None]), (Less(1, "x") & Less("y", 1), [0, None, -2, None])):
+            self.assertEqual([call(head, test, "y") for call in CALLS[:4]], ends)
+
     def test_no_row_can_match(self):
         for head in (Head(3, x=FullSpan(1, 7)), Head(GREAT, x=OpenList(1, 2))):
             for test in (Never(), Less("x", 1), Less("x", "x")):

@@ -11,7 +11,7 @@ from headskip.lots import Lots
 from headskip.questions import AtLeast, Greatest, Least, Many, Some, Top, Total
 from headskip.settled import Settled, Unsettled, settle
 from headskip.shelves import Shelf, Table
-from headskip.sums import Sums
+from headskip.sums import Sums, sums
 from headskip.tolds import FullSpan, OpenSpan
 from brute import all_tables, answer_on, lots_of
 from helpers import Case, exactly, odd_values
@@ -91,6 +91,46 @@ class BentSettled(Case):
                 self.assertIs(shows_settled(shelf, question, reads, bent), wanted, (str(question), bent.answer))
                 self.assertTrue(not wanted or exactly(bent.answer, paper.answer))
         self.assertGreater(min(found.values()), 200)
+
+    def test_notes_that_pass_over_values(self):
+        rng = random.Random(118)
+        found = 0
+        for shelf, question, reads in some_cases(120, 119):
+            if question.asked is None or isinstance(question, Total):
+                continue
+            step = -1 if isinstance(question, Least) else 1
+            for _ in range(6):
+                told = sorted(rng.sample(range(-1, 5), rng.randint(0, min(question.quota, 3))), reverse=step > 0)
+                answer = tuple(told) if isinstance(question, Top) else told[0] if told else None
+                last = told[-1] if len(told) == question.quota else None
+                above = [value for value in told if value != last]
+                values = ([None] if last is None else [last, last + step]) + [value + k for value in above for k in (0, step)]
+                parts = tuple((at, notes_at(shelf[at], question, values)) for at in range(len(shelf)) if at not in reads)
+                wanted = rules_hold(shelf, question, reads, Settled(answer, parts))
+                found += wanted
+                self.assertIs(shows_settled(shelf, question, reads, Settled(answer, parts)), wanted, (str(question), answer))
+        self.assertGreater(found, 100)
+
+    def test_one_rule_alone_does_not_hold(self):
+        bound = Shelf(Head(3, x=FullSpan(0, 9, True, False)))
+        free = Shelf(Head(3, x=OpenSpan(0, 9, False, False)))
+        pair = Shelf(SHELF[0])
+        for shelf, question, answer, values in (
+            # The last value is not sure; those above it are not fixed; all are not fixed; one above it is passed over.
+            (bound, Greatest("x", ALL), 9, [9, 10]), (bound, Greatest("x", ALL), 0, [0, 1]), (free, Greatest("x", ALL), None, [None]),
+            (pair, Top(2, "x", ALL), (7, 2), [2, 3, 7, 8]), (pair, Top(2, "x", ALL), (2, 2), [2, 3]), (pair, Top(3, "x", ALL), (7,), [7, 8, None]),
+            (pair, Top(3, "x", ALL), (3,), [3, 4, None]), (bound, Top(3, "x", ALL), (0, 0, 0), [0, 1]), (free, Top(2, "x", ALL), (), [None]),
+            (bound, Least("x", ALL), 1, [0, 1]), (free, Least("x", ALL), 0, [-1, 0]), (pair, Least("x", ALL), 7, [6, 7]),
+        ):
+            paper = Settled(answer, ((0, notes_at(shelf[0], question, values)),))
+            self.assertIs(shows_settled(shelf, question, {}, paper), False, (str(question), answer))
+            self.assertIs(rules_hold(shelf, question, {}, paper), False)
+
+    def test_sums_that_are_not_fixed(self):
+        for shelf in (SHELF, Shelf(SHELF[1]), Shelf(Head(3, x=OpenSpan(0, 4)), SHELF[0])):
+            found = [sums(head, ALL, "x") for head in shelf]
+            for answer in (sum(told.least for told in found), sum(told.greatest for told in found)):
+                self.assertIs(shows_settled(shelf, Total("x", ALL), {}, Settled(answer, tuple(enumerate(found)))), False)
 
     def test_papers_for_open_questions(self):
         for shelf, question, reads in some_cases(60, 115):

@@ -68,6 +68,12 @@ class SumsOfBlocks(Case):
             found = self.check(head, test, "x")
             self.assertEqual((found.least, found.greatest), (least, greatest), (str(head), str(test)))
 
+    def test_values_that_go_farther_in_later_rows(self):
+        head = Head(3, x=FullSpan(0, 2, False, False), y=FullSpan(-2, 2, False, False))
+        for test in (Less(0, "x") | Less(0, "y"), Less(0, "x") | Less("y", 0), Same("x", 1) | Same("x", 0) & Same("y", 0)):
+            found = self.check(head, test, "y")
+            self.assertEqual((found.least, found.greatest), (-6, 6))
+
     def test_great_blocks(self):
         for head, test, column in some_cases(150, 62, 9):
             found = {}
