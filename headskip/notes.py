@@ -13,9 +13,7 @@ def sign_of(question):
 
 
 def limit_from(question, value):
-    """The Limit of the rows with at least this integer, with its sign; None for a question without a column."""
-    if question.asked is None:
-        return None
+    """The Limit of the rows with at least this integer, with its sign."""
     if sign_of(question) < 0:
         return Limit(question.asked, None, -value)
     return Limit(question.asked, value)

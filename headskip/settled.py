@@ -95,7 +95,7 @@ def _settle_number(shelf, question, reads):
             numbers = counts_of_kinds(head.rows, found, told)
             ranges.append((numbers.minimum, numbers.maximum))
             parts.append((at, ((None, found, told),)))
-    if _is_open(question, ranges):
+    if _turning_block(question, ranges) is not None:
         return _parted_tables(shelf, question, reads, None, ranges)
     return Settled(shown_by(question, _total_few(ranges)), tuple(parts))
 
@@ -106,8 +106,8 @@ def _settle_values(shelf, question, reads):
     last = None
     for value in sorted(set([step[0] for ladder in ladders for step in ladder.steps]))[::-1]:
         ranges = [ladder.range_from(value) for ladder in ladders]
-        if _is_open(question, ranges):
-            return _parted_tables(shelf, question, reads, value, ranges)
+        if _turning_block(question, ranges) is not None:
+            return _parted_tables(shelf, question, reads, limit_from(question, value), ranges)
         if _total_few(ranges) >= question.quota:
             last = value
             break
@@ -152,26 +152,30 @@ def _total_few(ranges):
     return sum([few for few, _ in ranges])
 
 
-def _is_open(question, ranges):
-    """Whether an answer shows unlike things of the least and of the greatest number of matches."""
-    most = sum([many for _, many in ranges])
-    return shown_by(question, _total_few(ranges)) != shown_by(question, most)
+def _turning_block(question, ranges):
+    """The first block that changes what the answer shows if block after block goes from few matches to many.
 
-
-def _parted_tables(shelf, question, reads, value, ranges):
-    """The Unsettled with as few matches as there can be, and with as many block by block until the answer changes."""
-    limit = limit_from(question, value)
+    None if the answer shows the same of few and of many matches.
+    """
     total = _total_few(ranges)
-    blocks = []
-    for at, head in enumerate(shelf):
-        few = ranges[at][0]
-        blocks.append(reads[at] if at in reads else lots_with(head, question.test, few, limit))
     for at, (few, many) in enumerate(ranges):
         more = total + many - few
-        if many > few:
-            table = Table(*blocks)
-            blocks[at] = lots_with(shelf[at], question.test, many, limit)
-            if shown_by(question, more) != shown_by(question, total):
-                return Unsettled(at, table, table.with_block(at, blocks[at]))
+        if shown_by(question, more) != shown_by(question, total):
+            return at
         total = more
     return None
+
+
+def _parted_tables(shelf, question, reads, limit, ranges):
+    """The Unsettled with many matches ahead of the turning block, and with few behind it."""
+    turning = _turning_block(question, ranges)
+    blocks = []
+    for at, head in enumerate(shelf):
+        few, many = ranges[at]
+        if at in reads:
+            blocks.append(reads[at])
+        else:
+            blocks.append(lots_with(head, question.test, many if at < turning else few, limit))
+    table = Table(*blocks)
+    changed = lots_with(shelf[turning], question.test, ranges[turning][1], limit)
+    return Unsettled(turning, table, table.with_block(turning, changed))
