@@ -43,7 +43,7 @@ class Extents:
             others = others + [met for met, row in self.lows.items() if self.worth(row) < value]
         return kinds_of_sets(self.head.wanted, matching, others)
 
-    def gains(self):
+    def most_gained(self):
         """Triples: a set of wants, the most that a row with it adds to the sum over all matches, and such a row."""
         found = {met: (0, row) for met, row in self.others.items()}
         for met, row in self.highs.items():

@@ -11,7 +11,10 @@ from headskip.words import check_end, words_of
 
 
 class Question:
-    """The base of all questions. What has no column asks how many rows match."""
+    """The base of all questions. What has no column asks how many rows match.
+
+    The classes that are made have the listed methods in their own bodies, too: L5 of the language asks for this.
+    """
 
     def __init__(self, test, asked, quota):
         if not isinstance(test, Filter):
@@ -23,31 +26,18 @@ class Question:
     @property
     def columns(self):
         """The ascending tuple of all columns that it names."""
-        asked = () if self.asked is None else (self.asked,)
-        return tuple(sorted(set(self.test.columns + asked)))
+        return columns_asked(self)
 
     def __call__(self, shelf, table):
-        _check_columns(self, shelf.names)
-        if not isinstance(table, Table) or len(table) != len(shelf):
-            raise BadTable(None)
-        for at, head in enumerate(shelf):
-            if not head.fits(table[at]):
-                raise BadTable(at)
-        return self.answer_to(self.found_in(shelf.names, list(table)))
+        return answer_at(self, shelf, table)
 
     def on(self, names, *blocks):
         """The answer on Lots with columns of these names."""
-        if not isinstance(names, tuple) or not are_ascending_names(names) or not 1 <= len(names) <= MOST_COLUMNS:
-            raise BadShelf("names")
-        _check_columns(self, names)
-        for at, lots in enumerate(blocks):
-            if not isinstance(lots, Lots) or (lots.rows > 0 and lots.width != len(names)):
-                raise BadLots(at)
-        return self.answer_to(self.found_in(names, list(blocks)))
+        return answer_in(self, names, blocks)
 
     def joined(self, *answers):
         """The answer on all blocks, of the answers on each."""
-        return self.answer_of_answers(list(answers))
+        return self.answer_of_answers(answers)
 
     def found_in(self, names, blocks):
         """The numbers of the matching rows of blocks."""
@@ -98,6 +88,22 @@ class Some(Question):
     def __init__(self, test):
         Question.__init__(self, test, None, 1)
 
+    @property
+    def columns(self):
+        """The ascending tuple of all columns that it names."""
+        return columns_asked(self)
+
+    def __call__(self, shelf, table):
+        return answer_at(self, shelf, table)
+
+    def on(self, names, *blocks):
+        """The answer on Lots with columns of these names."""
+        return answer_in(self, names, blocks)
+
+    def joined(self, *answers):
+        """The answer on all blocks, of the answers on each."""
+        return self.answer_of_answers(answers)
+
     def answer_to(self, found):
         """The answer, by the numbers of the matching rows."""
         return len(found) > 0
@@ -115,6 +121,22 @@ class Many(Question):
     def __init__(self, test):
         Question.__init__(self, test, None, None)
 
+    @property
+    def columns(self):
+        """The ascending tuple of all columns that it names."""
+        return columns_asked(self)
+
+    def __call__(self, shelf, table):
+        return answer_at(self, shelf, table)
+
+    def on(self, names, *blocks):
+        """The answer on Lots with columns of these names."""
+        return answer_in(self, names, blocks)
+
+    def joined(self, *answers):
+        """The answer on all blocks, of the answers on each."""
+        return self.answer_of_answers(answers)
+
     def answer_to(self, found):
         """The answer, by the numbers of the matching rows."""
         return sum(found)
@@ -130,6 +152,22 @@ class AtLeast(Question):
     def __init__(self, many, test):
         _check_many(many, None)
         Question.__init__(self, test, None, many)
+
+    @property
+    def columns(self):
+        """The ascending tuple of all columns that it names."""
+        return columns_asked(self)
+
+    def __call__(self, shelf, table):
+        return answer_at(self, shelf, table)
+
+    def on(self, names, *blocks):
+        """The answer on Lots with columns of these names."""
+        return answer_in(self, names, blocks)
+
+    def joined(self, *answers):
+        """The answer on all blocks, of the answers on each."""
+        return self.answer_of_answers(answers)
 
     def answer_to(self, found):
         """The answer, by the numbers of the matching rows."""
@@ -154,6 +192,22 @@ class Greatest(OfColumn):
     def __init__(self, column, test):
         OfColumn.__init__(self, column, test, 1)
 
+    @property
+    def columns(self):
+        """The ascending tuple of all columns that it names."""
+        return columns_asked(self)
+
+    def __call__(self, shelf, table):
+        return answer_at(self, shelf, table)
+
+    def on(self, names, *blocks):
+        """The answer on Lots with columns of these names."""
+        return answer_in(self, names, blocks)
+
+    def joined(self, *answers):
+        """The answer on all blocks, of the answers on each."""
+        return self.answer_of_answers(answers)
+
     def answer_to(self, found):
         """The answer, by the pairs of an integer and a number of rows."""
         return max([int(value) for value, _ in found], default=None)
@@ -170,6 +224,22 @@ class Least(OfColumn):
 
     def __init__(self, column, test):
         OfColumn.__init__(self, column, test, 1)
+
+    @property
+    def columns(self):
+        """The ascending tuple of all columns that it names."""
+        return columns_asked(self)
+
+    def __call__(self, shelf, table):
+        return answer_at(self, shelf, table)
+
+    def on(self, names, *blocks):
+        """The answer on Lots with columns of these names."""
+        return answer_in(self, names, blocks)
+
+    def joined(self, *answers):
+        """The answer on all blocks, of the answers on each."""
+        return self.answer_of_answers(answers)
 
     def answer_to(self, found):
         """The answer, by the pairs of an integer and a number of rows."""
@@ -188,6 +258,22 @@ class Total(OfColumn):
     def __init__(self, column, test):
         OfColumn.__init__(self, column, test, None)
 
+    @property
+    def columns(self):
+        """The ascending tuple of all columns that it names."""
+        return columns_asked(self)
+
+    def __call__(self, shelf, table):
+        return answer_at(self, shelf, table)
+
+    def on(self, names, *blocks):
+        """The answer on Lots with columns of these names."""
+        return answer_in(self, names, blocks)
+
+    def joined(self, *answers):
+        """The answer on all blocks, of the answers on each."""
+        return self.answer_of_answers(answers)
+
     def answer_to(self, found):
         """The answer, by the pairs of an integer and a number of rows."""
         return sum([value * times for value, times in found])
@@ -205,6 +291,22 @@ class Top(OfColumn):
     def __init__(self, many, column, test):
         _check_many(many, MOST_OF_TOP)
         OfColumn.__init__(self, column, test, many)
+
+    @property
+    def columns(self):
+        """The ascending tuple of all columns that it names."""
+        return columns_asked(self)
+
+    def __call__(self, shelf, table):
+        return answer_at(self, shelf, table)
+
+    def on(self, names, *blocks):
+        """The answer on Lots with columns of these names."""
+        return answer_in(self, names, blocks)
+
+    def joined(self, *answers):
+        """The answer on all blocks, of the answers on each."""
+        return self.answer_of_answers(answers)
 
     def answer_to(self, found):
         """The answer, by the pairs of an integer and a number of rows."""
@@ -243,12 +345,46 @@ def question_of_parts(parts):
     return Top(number, column, test)
 
 
+def columns_asked(question):
+    """The ascending tuple of all columns that a question names."""
+    asked = () if question.asked is None else (question.asked,)
+    return tuple(sorted(set(question.test.columns + asked)))
+
+
+def answer_at(question, shelf, table):
+    """The answer on a table that fits a shelf."""
+    check_table(question, shelf, table)
+    return question.answer_to(question.found_in(shelf.names, list(table)))
+
+
+def answer_in(question, names, blocks):
+    """The answer on Lots with columns of these names."""
+    if not isinstance(names, tuple) or not are_ascending_names(names) or not 1 <= len(names) <= MOST_COLUMNS:
+        raise BadShelf("names")
+    check_columns_asked(question, names)
+    for at, lots in enumerate(blocks):
+        if not isinstance(lots, Lots) or (lots.rows > 0 and lots.width != len(names)):
+            raise BadLots(at)
+    return question.answer_to(question.found_in(names, blocks))
+
+
+def check_columns_asked(question, names):
+    """Raises NoName with the least column of the question that is none of these names."""
+    for name in columns_asked(question):
+        if name not in names:
+            raise NoName(name)
+
+
+def check_table(question, shelf, table):
+    """Raises what the question raises for a shelf and a table."""
+    check_columns_asked(question, shelf.names)
+    if not isinstance(table, Table) or len(table) != len(shelf):
+        raise BadTable(None)
+    for at, head in enumerate(shelf):
+        if not head.fits(table[at]):
+            raise BadTable(at)
+
+
 def _check_many(many, most):
     if not is_integer(many) or many < 1 or (most is not None and many > most):
         raise BadQuestion("many")
-
-
-def _check_columns(question, names):
-    for name in question.columns:
-        if name not in names:
-            raise NoName(name)

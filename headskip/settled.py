@@ -3,13 +3,13 @@
 from headskip.counts import counts_of_kinds, lots_with, matches_of
 from headskip.covers import covers
 from headskip.ends import levels_of
-from headskip.errors import BadQuestion, BadShelf, NoName
+from headskip.errors import BadQuestion, BadShelf
 from headskip.extents import extents
 from headskip.kinds import kinds
 from headskip.ladders import ladder_of_levels, ladder_of_values
 from headskip.matches import matched_values
 from headskip.notes import answer_of_values, filled_values, limit_from, shown_by, sign_of
-from headskip.questions import Question, Total
+from headskip.questions import Question, Total, check_columns_asked
 from headskip.shelves import Shelf, Table, check_reads
 from headskip.sums import sum_of, sums
 from headskip.values import ascending
@@ -59,9 +59,7 @@ def check_settling(shelf, question, reads):
         raise BadShelf("shelf")
     if not isinstance(question, Question):
         raise BadQuestion("question")
-    for name in question.columns:
-        if name not in shelf.names:
-            raise NoName(name)
+    check_columns_asked(question, shelf.names)
     check_reads(shelf, reads)
 
 

@@ -54,7 +54,7 @@ def sum_of(lots, names, test, column):
 
 def _greatest_sum(found):
     """The greatest sum, and Lots that have it: all rows gain the most, but for a few that meet the wants."""
-    gains = found.gains()
+    gains = found.most_gained()
     most = max([int(triple[1]) for triple in gains])
     filler = [row for _, gain, row in gains if gain == most][0]
     losses = [(set_index(met), most - gain, row) for met, gain, row in gains]
