@@ -15,6 +15,18 @@ class Ladder:
         below = [(few, many) for step, few, many in self.steps if step >= value]
         return below[-1] if below else (0, 0)
 
+    def possible_value(self):
+        """The greatest integer that some match can have, None if there is none."""
+        return _first_step([step for step, _, many in self.steps if many > 0])
+
+    def sure_value(self):
+        """The greatest integer that some match surely reaches, None if there is none."""
+        return _first_step([step for step, few, _ in self.steps if few > 0])
+
+    def is_open_above(self, last):
+        """Whether the number is not fixed at some integer above the last one (None: at some integer)."""
+        return any([few < many and (last is None or step > last) for step, few, many in self.steps])
+
     def sure_above(self, last):
         """The pairs of an integer above the last one (None: of any) and how many matches surely have it, descending."""
         found = []
@@ -24,6 +36,10 @@ class Ladder:
                 found.append((step, few - above))
             above = few
         return found
+
+
+def _first_step(steps):
+    return steps[0] if steps else None
 
 
 def ladder_of_levels(levels):

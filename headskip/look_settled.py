@@ -5,11 +5,11 @@ from headskip.covers import shows_covers
 from headskip.extents import extents
 from headskip.kinds import is_kinds, kinds
 from headskip.matches import matched_values
-from headskip.notes import answer_of_values, filled_values, shown_by, sign_of
-from headskip.questions import Many, Top, Total
+from headskip.notes import answer_of_values, filled_values, shown_by, sign_of, values_of_answer
+from headskip.questions import Many, Total
 from headskip.settled import Settled, Unsettled, check_settling
 from headskip.sums import shows_sums, sum_of
-from headskip.values import ascending, is_exactly, is_index, is_integer, is_value
+from headskip.values import ascending, is_exactly, is_index, is_value
 
 
 def shows_unsettled(shelf, question, reads, paper):
@@ -112,7 +112,7 @@ def _shows_number(shelf, question, reads, answer, told):
 
 def _shows_values(shelf, question, reads, answer, told):
     """Whether the numbers of matches that are told of the blocks show the answer to a question about values."""
-    values = _values_of_answer(question, answer)
+    values = values_of_answer(question, answer)
     if values is None:
         return False
     last = values[-1] if len(values) == question.quota else None
@@ -128,14 +128,6 @@ def _shows_values(shelf, question, reads, answer, told):
     pairs = [pair for some in sure for pair in some]
     pairs = pairs + [(value, times) for value, times in known if last is None or value > last]
     return is_exactly(answer, answer_of_values(question, filled_values(pairs, last, question.quota)))
-
-
-def _values_of_answer(question, answer):
-    """The integers that any value tells as an answer, with their sign; None if it is no answer."""
-    values = answer if isinstance(question, Top) else () if answer is None else (answer,)
-    if not isinstance(values, tuple) or not all([is_integer(value) for value in values]):
-        return None
-    return [sign_of(question) * value for value in values]
 
 
 def _sure_above(question, told, last):

@@ -5,6 +5,7 @@ Where a question asks for the least values, integers are taken as negated: then 
 
 from headskip.questions import Least, Top
 from headskip.spots import Limit
+from headskip.values import is_integer
 
 
 def sign_of(question):
@@ -34,6 +35,14 @@ def answer_of_values(question, values):
     if isinstance(question, Top):
         return tuple(numbers)
     return numbers[0] if numbers else None
+
+
+def values_of_answer(question, answer):
+    """The integers that any value tells as an answer, with their sign; None if it is no answer."""
+    values = answer if isinstance(question, Top) else () if answer is None else (answer,)
+    if not isinstance(values, tuple) or not all([is_integer(value) for value in values]):
+        return None
+    return [sign_of(question) * value for value in values]
 
 
 def filled_values(pairs, last, quota):

@@ -55,6 +55,12 @@ def ascending(values):
     return tuple(found)
 
 
+def in_order(values):
+    """Some values, each as often as it stands there, ascending, with None behind all integers."""
+    numbers = sorted([int(value) for value in values if value is not None])
+    return (*numbers, *[None for value in values if value is None])
+
+
 def ascending_rows(rows):
     """Some rows, each once, ascending value by value, with None behind all integers."""
     ranks = sorted(set([tuple([_rank(value) for value in row]) for row in rows]))

@@ -10,13 +10,17 @@ from headskip.errors import BadText, BadValue, TooMany
 from headskip.filters import Always, Among, AtMost, Less, Missing, Never, Same
 from headskip.heads import Head
 from headskip.kinds import Kinds
+from headskip.losses import Loss
 from headskip.lots import Lots
+from headskip.needs import Fewest
 from headskip.questions import AtLeast, Greatest
+from headskip.readers import OpenFirst
 from headskip.settled import Settled, Unsettled
 from headskip.shelves import Shelf, Table
 from headskip.spots import Limit, Part
 from headskip.sums import Sums
 from headskip.tolds import Blank, FullList, FullSpan, HoledList, HoledSpan, OpenList, OpenSpan
+from headskip.upkeep import Broken, Come, Merge, Sound, Split, Upkeep
 
 SPANS = (FullSpan, HoledSpan, OpenSpan)
 LISTS = (FullList, HoledList, OpenList)
@@ -32,6 +36,8 @@ def odd_values():
         Head(2, x=FullSpan(1, 2)), Limit("x"), Part(("x",), (1,)), Part(1, [2]), Kinds((), (), ()), BadValue(3),
         Covers((0,), (0,)), counts(Head(2, x=FullSpan(1, 2)), Always()), Shelf(Head(2, w=FullSpan(1, 2))), Table(Lots()),
         AtLeast(2, Always()), Greatest("w", Always()), Settled(1, ()), Unsettled(0, 1, 2), Sums(0, 0, Lots(), Lots()),
+        Fewest((0,), (), 0, ()), Loss(0, Table(Lots())), OpenFirst(), Upkeep(), Upkeep(leave="keep"), Come(0, 3), Split((3,)), Merge(),
+        Sound(True), Broken(()), (Merge(), Come(0, 3)),
     ]
 
 

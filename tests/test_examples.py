@@ -179,9 +179,52 @@ LOOK_SETTLED = r'''
 [True, False]
 '''
 
+NEEDS = r'''
+>>> from headskip.needs import Fewest, fewest, must, musts, shows_fewest
+>>> shelf = Shelf(head, surely)
+>>> ask = Greatest("x", zero)
+>>> table = Table(Lots(((0, 0), 2), ((5, 0), 1), ((9, 1), 2)), Lots(((0, 0), 2), ((8, 0), 2)))
+>>> [ask(shelf, table), musts(shelf, ask, table), fewest(shelf, ask, table) == Fewest((0,), (0,), 0, ())]
+[8, (0,), True]
+>>> found = fewest(shelf, AtLeast(4, zero), table)
+>>> [found.reads, found.due, found.lack, found.gains, musts(shelf, AtLeast(4, zero), table)]
+[(), (), 0, (), ()]
+>>> found = fewest(shelf, AtLeast(6, zero), table)
+>>> [found.reads, found.lack, found.gains, shows_fewest(shelf, AtLeast(6, zero), table, found)]
+[(0,), 1, ((2, 0),), True]
+'''
+
+LOSSES = r'''
+>>> from headskip.losses import Loss, greatest_loss, loss, shows_loss
+>>> from headskip.readers import InOrder, MostFirst, OpenFirst, course
+>>> [list(course(OpenFirst(), shelf, ask, table)), OpenFirst()(shelf, ask, {}), loss(InOrder(), shelf, ask, table)]
+[[0], 0, 0]
+>>> twins = Shelf(head, head)
+>>> found = greatest_loss(twins, ask)
+>>> [found.number, ask(twins, found.worst), list(course(OpenFirst(), twins, ask, found.worst)), greatest_loss(twins, Some(Less(9, "x"))).number]
+[1, 9, [0, 1], 0]
+'''
+
+UPKEEP = r'''
+>>> from headskip.upkeep import Broken, Come, Gone, Sound, Split, Upkeep, play, shows_sound, sound
+>>> book = Upkeep()
+>>> three = book.come(book.come(None, 3, [3]), 7, [3, 7])
+>>> [str(three), str(book.gone(three, 7, [3])), str(book.come(three, None, [3, 7, None])), str(Upkeep(leave="look").gone(three, 7, [3]))]
+['3 to 7', '3 to ~7', '3 to 7 holed', '3 to 3']
+>>> [str(told) for told, values in play(book, [Come(0, 3), Come(0, 7), Split((7,))])]
+['~3 to ~7', '~3 to ~7']
+>>> lazy = Upkeep(leave="keep")
+>>> [sound(book) == Sound(True), bool(sound(lazy)), shows_sound(lazy, Broken((Come(0, 3), Come(0, 7), Gone(0, 7)))), sound(Upkeep(begin="stretch", grow="stretch", leave="keep", split="keep")) == Sound(False)]
+[True, False, True, True]
+>>> Upkeep(grow="bound", begin="keep")
+raises BadUpkeep('begin')
+'''
+
 
 class Examples(Case):
     def test_examples_one_behind_the_other(self):
         names = {}
-        for text in (TOLDS, FILTERS, LOTS, HEADS, SPOTS, COVERS, COUNTS, ENDS, SHELVES, QUESTIONS, SETTLED, LOOK_SETTLED):
+        for text in (
+            TOLDS, FILTERS, LOTS, HEADS, SPOTS, COVERS, COUNTS, ENDS, SHELVES, QUESTIONS, SETTLED, LOOK_SETTLED, NEEDS, LOSSES, UPKEEP,
+        ):
             run_examples(self, text, names)

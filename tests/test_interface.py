@@ -18,6 +18,10 @@ FUNCTIONS = {
     "sums": "sums shows_sums",
     "settled": "settle",
     "look_settled": "shows_settled shows_unsettled",
+    "needs": "musts must fewest shows_fewest",
+    "readers": "course",
+    "losses": "loss greatest_loss shows_loss",
+    "upkeep": "play sound shows_sound",
 }
 
 TOLD = "__contains__ fits normal is_in both merged __add__ __neg__ __eq__ __str__ span_of list_of read"
@@ -59,6 +63,13 @@ CLASSES = {
         "AtLeast": ASKED, "Greatest": ASKED, "Least": ASKED, "Total": ASKED, "Top": ASKED,
     },
     "settled": {"Settled": PAPER, "Unsettled": PAPER},
+    "needs": {"Fewest": PAPER},
+    "readers": {"Reader": "__eq__ __str__ read", "InOrder": "__call__", "OpenFirst": "__call__", "MostFirst": "__call__"},
+    "losses": {"Loss": PAPER},
+    "upkeep": {
+        "Upkeep": "__init__ rules __eq__ __str__ read come gone together parted", "Come": PAPER, "Gone": PAPER, "Merge": "__eq__",
+        "Split": PAPER, "Sound": PAPER, "Broken": PAPER,
+    },
 }
 
 
