@@ -2,7 +2,7 @@
 
 from headskip.errors import BadText
 from headskip.values import MOST_COLUMNS
-from headskip.words import check_word, is_count, is_numeral, word_at
+from headskip.words import check_word, is_count, value_at, word_at
 
 
 def lots_parts(words, at):
@@ -31,7 +31,7 @@ def _row(words, at, above):
         return _first_row(words, at)
     row = ()
     for _ in above:
-        row = (*row, _value(words, at))
+        row = (*row, value_at(words, at))
         if not _can_stand(row, above):
             raise BadText(0, at)
         at += 1
@@ -39,10 +39,10 @@ def _row(words, at, above):
 
 
 def _first_row(words, at):
-    row = (_value(words, at),)
+    row = (value_at(words, at),)
     at += 1
     while len(row) < MOST_COLUMNS and at < len(words) and words[at] != "*":
-        row = (*row, _value(words, at))
+        row = (*row, value_at(words, at))
         at += 1
     return row, at
 
@@ -55,12 +55,3 @@ def _can_stand(begun, above):
     if begun[last] == above[last]:
         return len(begun) < len(above)
     return above[last] is not None and (begun[last] is None or begun[last] > above[last])
-
-
-def _value(words, at):
-    word = word_at(words, at)
-    if word == "null":
-        return None
-    if is_numeral(word):
-        return int(word)
-    raise BadText(0, at)

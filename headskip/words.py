@@ -42,6 +42,16 @@ def is_count(word):
     return is_numeral(word) and int(word) > 0
 
 
+def value_at(words, at):
+    """The integer, or None for `null`, that stands there."""
+    word = word_at(words, at)
+    if word == "null":
+        return None
+    if is_numeral(word):
+        return int(word)
+    raise BadText(0, at)
+
+
 def rising_integers(words, at, most):
     """The integers that ascend from a word on, as many as may stand there, and the index behind them."""
     found = []

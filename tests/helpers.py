@@ -6,6 +6,7 @@ import unittest
 from headskip import errors
 from headskip.counts import counts
 from headskip.covers import Covers
+from headskip.desk import Desk
 from headskip.errors import BadText, BadValue, TooMany
 from headskip.filters import Always, Among, AtMost, Less, Missing, Never, Same
 from headskip.heads import Head
@@ -18,6 +19,7 @@ from headskip.readers import OpenFirst
 from headskip.settled import Settled, Unsettled
 from headskip.shelves import Shelf, Table
 from headskip.spots import Limit, Part
+from headskip.store import Store
 from headskip.sums import Sums
 from headskip.tolds import Blank, FullList, FullSpan, HoledList, HoledSpan, OpenList, OpenSpan
 from headskip.upkeep import Broken, Come, Merge, Sound, Split, Upkeep
@@ -37,7 +39,7 @@ def odd_values():
         Covers((0,), (0,)), counts(Head(2, x=FullSpan(1, 2)), Always()), Shelf(Head(2, w=FullSpan(1, 2))), Table(Lots()),
         AtLeast(2, Always()), Greatest("w", Always()), Settled(1, ()), Unsettled(0, 1, 2), Sums(0, 0, Lots(), Lots()),
         Fewest((0,), (), 0, ()), Loss(0, Table(Lots())), OpenFirst(), Upkeep(), Upkeep(leave="keep"), Come(0, 3), Split((3,)), Merge(),
-        Sound(True), Broken(()), (Merge(), Come(0, 3)),
+        Sound(True), Broken(()), (Merge(), Come(0, 3)), Store(Upkeep(), "x"), Desk(Store(Upkeep(), "x")),
     ]
 
 

@@ -220,11 +220,24 @@ UPKEEP = r'''
 raises BadUpkeep('begin')
 '''
 
+DESK = r'''
+>>> from headskip.desk import Desk
+>>> from headskip.store import Store
+>>> desk = Desk(Store(Upkeep(), "x"))
+>>> desk.run("put 0 3", "put 0 7", "put 1 5", "head 0", "ask many where x < 6", "settle - greatest x where always")
+['ok', 'ok', 'ok', '2 ; x 3 to 7', '2', 'settled 7']
+>>> [desk("take 0 7"), desk("head 0"), desk("settle - greatest x where always"), desk("musts many where x < 6")]
+['ok', '1 ; x 3 to ~7', 'settled 5', '-']
+>>> desk.ask("put 0 x")
+raises BadLine(2)
+'''
+
 
 class Examples(Case):
     def test_examples_one_behind_the_other(self):
         names = {}
         for text in (
-            TOLDS, FILTERS, LOTS, HEADS, SPOTS, COVERS, COUNTS, ENDS, SHELVES, QUESTIONS, SETTLED, LOOK_SETTLED, NEEDS, LOSSES, UPKEEP,
+            TOLDS, FILTERS, LOTS, HEADS, SPOTS, COVERS, COUNTS, ENDS, SHELVES, QUESTIONS, SETTLED, LOOK_SETTLED,
+            NEEDS, LOSSES, UPKEEP, DESK,
         ):
             run_examples(self, text, names)

@@ -22,6 +22,8 @@ FUNCTIONS = {
     "readers": "course",
     "losses": "loss greatest_loss shows_loss",
     "upkeep": "play sound shows_sound",
+    "texts": "store_text",
+    "reading": "read_store",
 }
 
 TOLD = "__contains__ fits normal is_in both merged __add__ __neg__ __eq__ __str__ span_of list_of read"
@@ -70,6 +72,11 @@ CLASSES = {
         "Upkeep": "__init__ rules __eq__ __str__ read come gone together parted", "Come": PAPER, "Gone": PAPER, "Merge": "__eq__",
         "Split": PAPER, "Sound": PAPER, "Broken": PAPER,
     },
+    "store": {
+        "Store": "__init__ put take change merge split look undo __len__ trial tried upkeep shelf table __eq__",
+        "Trial": "__enter__ keep __exit__",
+    },
+    "desk": {"Desk": "__init__ ask __call__ run __len__"},
 }
 
 

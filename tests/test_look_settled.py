@@ -3,7 +3,7 @@
 import random
 
 from headskip.covers import Covers
-from headskip.filters import Always, Less, Never
+from headskip.filters import Less, Never
 from headskip.heads import Head
 from headskip.kinds import Kinds
 from headskip.look_settled import shows_settled, shows_unsettled

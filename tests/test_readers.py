@@ -1,7 +1,5 @@
 """Tests of the readers: their words, what each one reads next, and their courses on tables."""
 
-import random
-
 from headskip.errors import BadQuestion, BadText
 from headskip.filters import Always, AtMost, Less, Missing, Never, Same
 from headskip.heads import Head
@@ -9,12 +7,11 @@ from headskip.lots import Lots
 from headskip.questions import AtLeast, Greatest, Least, Many, Some, Top, Total
 from headskip.readers import InOrder, MostFirst, OpenFirst, Reader, course
 from headskip.settled import settle
-from headskip.shelves import Shelf, Table
+from headskip.shelves import Shelf
 from headskip.tolds import FullSpan, OpenSpan
 from brute import lots_of
 from helpers import Case, odd_values
 from needs_rules import table_of
-from settled_rules import questions_over
 from test_needs import SHELF, TABLE, check_table_errors, known_cases
 from test_settled import check_errors
 
