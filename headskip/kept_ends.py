@@ -9,16 +9,16 @@ from headskip.values import integers_of
 LOW = 0
 HIGH = 1
 NULL = 2
-SIDES = (LOW, HIGH, NULL)
+SIDES = (0, 1, 2)
 
 
 def ends_of(told):
     """The three ends of a Told; there are none without rows."""
     if told is None:
         return (None, None, None)
-    null = (None, None in told.wants) if None in told else None
     if told.low is None:
         return (None, None, (None, False))
+    null = (None, None in told.wants) if None in told else None
     return ((told.low, told.low in told.wants), (told.high, told.high in told.wants), null)
 
 
@@ -46,9 +46,7 @@ def end_among(side, values):
 
 
 def is_farther(side, value, other):
-    """Whether a value lies farther out than another one; NULL never does."""
-    if side == NULL:
-        return False
+    """Whether an integer lies farther out than another one, at the low or at the high end."""
     return value < other if side == LOW else value > other
 
 

@@ -56,8 +56,6 @@ def are_settling(question, ladders):
         many = sum([most for _, most in ranges])
         if shown_by(question, few) != shown_by(question, many):
             return False
-        if question.quota is not None and few >= question.quota:
-            return True
     return True
 
 

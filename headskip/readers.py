@@ -6,7 +6,6 @@ from headskip.outlooks import are_settling, open_step, read_ladder, unread_ladde
 from headskip.questions import Total, check_table
 from headskip.reader_words import reader_word
 from headskip.settled import check_settling
-from headskip.sums import sums
 from headskip.words import check_end, words_of
 
 
@@ -34,8 +33,8 @@ class InOrder(Reader):
     WORD = "in order"
 
     def __call__(self, shelf, question, reads):
-        loose = loose_blocks(shelf, question, reads)
-        return _first_greatest([(at, 0) for at, _ in loose])
+        loose = loose_ladders(shelf, question, reads)
+        return _first_greatest([(at, 0) for at in loose])
 
 
 class OpenFirst(Reader):
@@ -44,9 +43,9 @@ class OpenFirst(Reader):
     WORD = "open first"
 
     def __call__(self, shelf, question, reads):
-        # For all other questions the loose blocks are open from 0 on.
-        loose = loose_blocks(shelf, question, reads)
-        return _first_greatest(loose)
+        # For all other questions each loose block is open from 0 on.
+        loose = loose_ladders(shelf, question, reads)
+        return _first_greatest([(at, open_step(question, ladder)) for at, ladder in loose.items()])
 
 
 class MostFirst(Reader):
@@ -55,8 +54,8 @@ class MostFirst(Reader):
     WORD = "most first"
 
     def __call__(self, shelf, question, reads):
-        loose = loose_blocks(shelf, question, reads)
-        return _first_greatest([(at, _spread(shelf[at], question)) for at, _ in loose])
+        loose = loose_ladders(shelf, question, reads)
+        return _first_greatest([(at, _spread(shelf[at], question, ladder)) for at, ladder in loose.items()])
 
 
 def course(reader, shelf, question, table):
@@ -72,21 +71,20 @@ def course(reader, shelf, question, table):
         at = reader(shelf, question, reads)
 
 
-def loose_blocks(shelf, question, reads):
-    """The pairs of a loose block and the integer from which on it is open; none if the question is settled."""
+def loose_ladders(shelf, question, reads):
+    """A dict from the loose blocks, ascending, to their Ladders; an empty one if the question is settled."""
     check_settling(shelf, question, reads)
     ladders = []
-    loose = []
+    loose = {}
     for at, head in enumerate(shelf):
         if at in reads:
             ladders.append(read_ladder(question, shelf.names, reads[at]))
             continue
         ladder = unread_ladder(question, head)
         ladders.append(ladder)
-        value = open_step(question, ladder)
-        if value is not None:
-            loose.append((at, value))
-    return [] if are_settling(question, ladders) else loose
+        if open_step(question, ladder) is not None:
+            loose[at] = ladder
+    return {} if are_settling(question, ladders) else loose
 
 
 def reader_of_word(word):
@@ -106,10 +104,10 @@ def _first_greatest(pairs):
     return [at for at, number in pairs if number == most][0]
 
 
-def _spread(head, question):
+def _spread(head, question, ladder):
     """How far the greatest number of matches, or the greatest sum, lies above the least one."""
-    if isinstance(question, Total):
-        found = sums(head, question.test, question.asked)
-        return found.greatest - found.least
+    if question.asked is None or isinstance(question, Total):
+        few, many = ladder.range_from(0)
+        return many - few
     numbers = counts(head, question.test)
     return numbers.maximum - numbers.minimum

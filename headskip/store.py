@@ -133,28 +133,31 @@ class Store:
 
 
 class Trial:
-    """What a store was ahead of a block of `with`."""
+    """What a store was ahead of a block of `with`; goal is what becomes so again behind the block."""
 
     def __init__(self, store):
         self.store = store
+        self.goal = store
         self.blocks = ()
         self.past = []
-        self.kept = None
 
     def __enter__(self):
+        self.goal = self.store
         self.blocks = self.store.blocks
         self.past = list(self.store.past)
         return self
 
     def keep(self):
         """Lets the deeds stand behind the block, if it raises no error."""
-        self.kept = True
+        # The trial itself is so already: then nothing is put back.
+        self.goal = self
 
     def __exit__(self, kind, value, trace):
-        store = self.store
-        if kind is not None or self.kept is None:
-            store.blocks = self.blocks
-            store.past = self.past
+        if kind is not None:
+            self.goal = self.store
+        goal = self.goal
+        goal.blocks = self.blocks
+        goal.past = self.past
 
 
 def store_of(upkeep, names, blocks):

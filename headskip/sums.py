@@ -67,20 +67,31 @@ def _greatest_sum(found):
 
 def _cheapest_rows(losses, wants, most):
     """The least loss of at most so many rows that meet all wants together, and such rows."""
-    size = 1 << wants
-    layers = [[0] + [None] * (size - 1)]
-    # More rows than wants are never needed: each one of the cheapest rows meets a want that no other one meets.
-    for _ in range(min(int(most), wants)):
-        layers.append([0] + [_least_loss(layers[-1], losses, at) for at in range(1, size)])
+    layers = _layers(losses, wants, most)
     rows = []
-    at = size - 1
+    at = (1 << wants) - 1
     for k in range(len(layers) - 1, 0, -1):
         for mask, loss, row in losses:
             if mask & at and _loss_behind(layers[k - 1], mask, loss, at) == layers[k][at]:
                 rows.append(row)
                 at = at & ~mask
                 break
-    return layers[-1][size - 1], rows
+    return layers[-1][-1], rows
+
+
+def _layers(losses, wants, most):
+    """For none, one, two .. rows the least losses of so many rows, or fewer, that meet each set of wants."""
+    size = 1 << wants
+    layers = [[0] + [None] * (size - 1)]
+    if most < wants:
+        for _ in range(int(most)):
+            layers.append([0] + [_least_loss(layers[-1], losses, at) for at in range(1, size)])
+        return layers
+    # More rows than wants are never needed: each one of the cheapest rows meets a want that no other one meets.
+    layer = [0]
+    for at in range(1, size):
+        layer.append(_least_loss(layer, losses, at))
+    return [layer] * (wants + 1)
 
 
 def _least_loss(layer, losses, at):
